@@ -1,0 +1,1 @@
+"""Tar archives and the trees that they unpack to."""

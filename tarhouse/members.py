@@ -1,0 +1,230 @@
+"""Names, paths, and the five kinds of members."""
+
+from tarhouse.checks import is_integer_within
+from tarhouse.errors import NoData, NoMode, NoName, NoPieces, NoSize, NoTime
+
+NAME_CHARACTERS = "abcdefghijklmnopqrstuvwxyz0123456789._-/"
+MOST_CHARACTERS = 250
+NO_PARTS = ("", ".", "..")
+MOST_BYTES = 4096
+MOST_PIECES = 50
+LAST_MODE = 4095
+LAST_TIME = 8589934591
+
+
+def is_name(thing):
+    """Return whether any value is a name."""
+    if not isinstance(thing, str) or not 1 <= len(thing) <= MOST_CHARACTERS:
+        return False
+    return all([character in NAME_CHARACTERS for character in thing])
+
+
+def is_path(thing):
+    """Return whether any value is a path."""
+    if not is_name(thing):
+        return False
+    return not any([part in NO_PARTS for part in thing.split("/")])
+
+
+def check_name(thing):
+    """Raise `NoName` if a value is not a name."""
+    if not is_name(thing):
+        raise NoName(thing)
+
+
+def check_data(thing):
+    """Raise `NoData` if a value is not the data of a file."""
+    if not isinstance(thing, bytes) or len(thing) > MOST_BYTES:
+        raise NoData(thing)
+
+
+def check_pieces(size, pieces):
+    """Raise `NoSize` or `NoPieces` if a sparse file cannot have these."""
+    if not is_integer_within(size, 0, MOST_BYTES):
+        raise NoSize(size)
+    if not are_pieces(size, pieces):
+        raise NoPieces(pieces)
+
+
+def are_pieces(size, pieces):
+    """Return whether these are pieces of a sparse file of this size."""
+    if len(pieces) > MOST_PIECES:
+        return False
+    least = 0
+    for piece in pieces:
+        if not is_piece(piece, least, size):
+            return False
+        # One byte stays free: pieces that touch would be one piece.
+        least = piece[0] + len(piece[1]) + 1
+    return True
+
+
+def is_piece(thing, least, size):
+    """Return whether a value is a piece from `least` on and within the size."""
+    if not isinstance(thing, tuple) or len(thing) != 2:
+        return False
+    offset, data = thing
+    if not is_integer_within(offset, least, size):
+        return False
+    return isinstance(data, bytes) and 1 <= len(data) <= size - offset
+
+
+def check_mode_and_time(mode, time):
+    """Raise `NoMode` or `NoTime` if no member can have these."""
+    if not is_integer_within(mode, 0, LAST_MODE):
+        raise NoMode(mode)
+    if not is_integer_within(time, 0, LAST_TIME):
+        raise NoTime(time)
+
+
+class Member:
+    """A member of an archive: an object of one of the classes below."""
+
+
+class File(Member):
+    """A file with its data."""
+
+    KIND = "file"
+
+    def __init__(self, name, data, *, mode=420, time=0):
+        check_name(name)
+        check_data(data)
+        check_mode_and_time(mode, time)
+        self.name = name
+        self.data = data
+        self.mode = mode
+        self.time = time
+
+    def __eq__(self, other):
+        return (
+            isinstance(other, File)
+            and self.name == other.name
+            and self.data == other.data
+            and self.mode == other.mode
+            and self.time == other.time
+        )
+
+    def __repr__(self):
+        return f"File({self.name!r})"
+
+    def content(self):
+        """Return the content, which is the data."""
+        return self.data
+
+
+class Sparse(Member):
+    """A file of which only the pieces are stored, as tuples `(offset, data)`."""
+
+    KIND = "sparse"
+
+    def __init__(self, name, size, *pieces, mode=420, time=0):
+        check_name(name)
+        check_pieces(size, pieces)
+        check_mode_and_time(mode, time)
+        self.name = name
+        self.size = size
+        self.pieces = pieces
+        self.mode = mode
+        self.time = time
+
+    def __eq__(self, other):
+        return (
+            isinstance(other, Sparse)
+            and self.name == other.name
+            and self.size == other.size
+            and self.pieces == other.pieces
+            and self.mode == other.mode
+            and self.time == other.time
+        )
+
+    def __repr__(self):
+        return f"Sparse({self.name!r})"
+
+    def content(self):
+        """Return the content: the pieces, and zero bytes where there is none."""
+        parts = []
+        end = 0
+        for offset, data in self.pieces:
+            parts.append(bytes(offset - end))
+            parts.append(data)
+            end = offset + len(data)
+        parts.append(bytes(self.size - end))
+        return b"".join(parts)
+
+
+class Directory(Member):
+    """A directory."""
+
+    KIND = "directory"
+
+    def __init__(self, name, *, mode=493, time=0):
+        check_name(name)
+        check_mode_and_time(mode, time)
+        self.name = name
+        self.mode = mode
+        self.time = time
+
+    def __eq__(self, other):
+        return (
+            isinstance(other, Directory)
+            and self.name == other.name
+            and self.mode == other.mode
+            and self.time == other.time
+        )
+
+    def __repr__(self):
+        return f"Directory({self.name!r})"
+
+
+class Symlink(Member):
+    """A symbolic link with its target."""
+
+    KIND = "symlink"
+
+    def __init__(self, name, target, *, mode=511, time=0):
+        check_name(name)
+        check_name(target)
+        check_mode_and_time(mode, time)
+        self.name = name
+        self.target = target
+        self.mode = mode
+        self.time = time
+
+    def __eq__(self, other):
+        return (
+            isinstance(other, Symlink)
+            and self.name == other.name
+            and self.target == other.target
+            and self.mode == other.mode
+            and self.time == other.time
+        )
+
+    def __repr__(self):
+        return f"Symlink({self.name!r})"
+
+
+class Link(Member):
+    """A hard link with its target."""
+
+    KIND = "link"
+
+    def __init__(self, name, target, *, mode=420, time=0):
+        check_name(name)
+        check_name(target)
+        check_mode_and_time(mode, time)
+        self.name = name
+        self.target = target
+        self.mode = mode
+        self.time = time
+
+    def __eq__(self, other):
+        return (
+            isinstance(other, Link)
+            and self.name == other.name
+            and self.target == other.target
+            and self.mode == other.mode
+            and self.time == other.time
+        )
+
+    def __repr__(self):
+        return f"Link({self.name!r})"

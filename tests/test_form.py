@@ -1,0 +1,170 @@
+"""The form of the package: what of the rules of its language a test can see."""
+
+import ast
+import builtins
+import unittest
+import warnings
+from pathlib import Path
+
+ROOT = Path(__file__).resolve().parent.parent
+FOLDER = ROOT / "tarhouse"
+FILES = sorted(FOLDER.glob("*.py"))
+TREES = {path.stem: ast.parse(path.read_text()) for path in FILES}
+
+ALLOWED_BUILTINS = set(
+    "len range enumerate zip min max sum abs sorted reversed int str bool bytes list tuple dict set"
+    " isinstance ord repr any all divmod iter next Exception ValueError TypeError KeyError IndexError"
+    " LookupError ZeroDivisionError ArithmeticError OverflowError RuntimeError NotImplementedError"
+    " AttributeError StopIteration NotImplemented".split()
+)
+BARRED_WORDS = (
+    "type typing typing_extensions enum Enum IntEnum StrEnum Flag IntFlag Generic Protocol ABC ABCMeta"
+    " namedtuple NamedTuple TypedDict TYPE_CHECKING abstractmethod".split()
+)
+BARRED_NAMES = set(
+    "register mro elements open input law version_info with_traceback add_note attrgetter breakpoint"
+    " builtins compile copyright credits delattr dir eval exec exit gc getattr globals hasattr help id"
+    " importlib license locals methodcaller os quit setattr super vars sys".split()
+)
+DOUBLE_UNDERSCORES = ["__init__", "__eq__", "__repr__", "__len__", "__enter__", "__exit__"]
+INTERFACE = {
+    "blobs": ["blob"],
+    "members": ["Member", "File", "Sparse", "Directory", "Symlink", "Link", "is_name", "is_path"],
+    "errors": [
+        "NoBlob", "NoData", "NoBlock", "NoMember", "NoHouse", "NoName", "NoMode", "NoSize", "NoPieces",
+        "Torn", "Wrong", "NoText", "NoCommand", "NoTime", "TooMany", "Closed", "Refused", "NoOffset",
+        "NoIndex", "NoPath", "NoEdit",
+    ],
+}
+METHODS = {
+    ("members", "File"): ["__init__", "__eq__", "__repr__", "content"],
+    ("members", "Sparse"): ["__init__", "__eq__", "__repr__", "content"],
+    ("members", "Directory"): ["__init__", "__eq__", "__repr__"],
+    ("members", "Symlink"): ["__init__", "__eq__", "__repr__"],
+    ("members", "Link"): ["__init__", "__eq__", "__repr__"],
+}
+
+
+def nodes(*kinds):
+    """Yield the file and the node for all nodes of these kinds."""
+    for stem, tree in TREES.items():
+        for node in ast.walk(tree):
+            if isinstance(node, kinds):
+                yield stem, node
+
+
+def defined(stem):
+    """Return the names that a file defines at module level, with their nodes."""
+    found = {}
+    for node in TREES[stem].body:
+        if isinstance(node, (ast.FunctionDef, ast.ClassDef)):
+            found[node.name] = node
+        elif isinstance(node, ast.Assign):
+            found[node.targets[0].id] = node
+    return found
+
+
+def bound_names():
+    """Yield the file and each name that it binds: not those of attributes."""
+    for stem, node in nodes(ast.FunctionDef, ast.ClassDef, ast.arg, ast.Name, ast.alias):
+        if isinstance(node, (ast.FunctionDef, ast.ClassDef, ast.alias)):
+            yield stem, node.name
+        elif isinstance(node, ast.arg):
+            yield stem, node.arg
+        elif not isinstance(node.ctx, ast.Load):
+            yield stem, node.id
+
+
+class Files(unittest.TestCase):
+    def test_the_folder_holds_only_sources(self):
+        self.assertIn(FOLDER / "__init__.py", FILES)
+        for path in FOLDER.iterdir():
+            if path.name != "__pycache__":
+                self.assertRegex(path.name, r"^([a-z][a-z0-9_]*|__init__|__main__)\.py$")
+
+    def test_sizes_and_characters(self):
+        for path in FILES:
+            text = path.read_bytes().decode("ascii")
+            with self.subTest(path=path.name):
+                self.assertLessEqual(len(text.splitlines()), 399)
+                self.assertLessEqual(max(map(len, text.splitlines())), 120)
+                self.assertRegex(text, r"\A[ -~\n]*\n\Z")
+        for stem, node in nodes(ast.FunctionDef):
+            with self.subTest(file=stem, function=node.name):
+                self.assertLessEqual(node.end_lineno - node.lineno + 1, 40)
+
+    def test_barred_words(self):
+        for path in FILES:
+            text = path.read_text()
+            with self.subTest(path=path.name):
+                self.assertNotRegex(text, rf"\b({'|'.join(BARRED_WORDS)})\b")
+                self.assertNotRegex(text, "dataclass|overload|contextmanager|%")
+
+    def test_python_gives_no_warning(self):
+        for path in FILES:
+            with warnings.catch_warnings():
+                warnings.simplefilter("error")
+                compile(path.read_text(), path.name, "exec")
+
+
+class Names(unittest.TestCase):
+    def test_imports_name_the_file_that_defines(self):
+        for stem, node in nodes(ast.Import, ast.ImportFrom):
+            with self.subTest(file=stem, line=node.lineno):
+                self.assertIsInstance(node, ast.ImportFrom)
+                self.assertEqual(node.level, 0)
+                package, _, module = node.module.partition(".")
+                self.assertEqual(package, "tarhouse")
+                for alias in node.names:
+                    self.assertIsNone(alias.asname)
+                    self.assertIn(alias.name, defined(module))
+
+    def test_module_level(self):
+        kinds = (ast.FunctionDef, ast.ClassDef, ast.ImportFrom, ast.Assign)
+        for stem, tree in TREES.items():
+            self.assertIsNotNone(ast.get_docstring(tree), stem)
+            for node in tree.body[1:]:
+                with self.subTest(file=stem, line=node.lineno):
+                    self.assertIsInstance(node, kinds)
+                    if isinstance(node, ast.Assign):
+                        ast.literal_eval(node.value)
+
+    def test_only_allowed_builtins(self):
+        for stem, node in nodes(ast.Name):
+            if hasattr(builtins, node.id):
+                self.assertIn(node.id, ALLOWED_BUILTINS, stem)
+
+    def test_plain_names(self):
+        for stem, name in bound_names():
+            with self.subTest(file=stem, name=name):
+                if name not in DOUBLE_UNDERSCORES:
+                    self.assertRegex(name, r"\A[A-Za-z][A-Za-z0-9_]*\Z")
+                    self.assertNotIn(name, BARRED_NAMES)
+                    self.assertFalse(hasattr(builtins, name))
+
+    def test_no_name_is_a_method_and_an_attribute(self):
+        methods = {
+            node.name for _, kind in nodes(ast.ClassDef) for node in kind.body
+            if isinstance(node, ast.FunctionDef)
+        }
+        attributes = {node.attr for _, node in nodes(ast.Attribute) if not isinstance(node.ctx, ast.Load)}
+        self.assertEqual(methods & attributes, set())
+
+
+class Interface(unittest.TestCase):
+    def test_each_name_is_defined_in_its_file(self):
+        for stem, names in INTERFACE.items():
+            found = defined(stem)
+            for name in names:
+                with self.subTest(file=stem, name=name):
+                    self.assertIsInstance(found.get(name), (ast.FunctionDef, ast.ClassDef))
+
+    def test_each_method_is_defined_in_its_class(self):
+        for (stem, name), methods in METHODS.items():
+            body = defined(stem)[name].body
+            found = {node.name for node in body if isinstance(node, ast.FunctionDef)}
+            self.assertEqual(set(methods) - found, set(), name)
+
+
+if __name__ == "__main__":
+    unittest.main()
