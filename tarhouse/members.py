@@ -1,7 +1,7 @@
 """Names, paths, and the five kinds of members."""
 
 from tarhouse.checks import is_integer_within
-from tarhouse.errors import NoData, NoMode, NoName, NoPieces, NoSize, NoTime
+from tarhouse.errors import NoData, NoMember, NoMode, NoName, NoPieces, NoSize, NoTime
 
 NAME_CHARACTERS = "abcdefghijklmnopqrstuvwxyz0123456789._-/"
 MOST_CHARACTERS = 250
@@ -26,6 +26,54 @@ def is_path(thing):
     return not any([part in NO_PARTS for part in thing.split("/")])
 
 
+def is_data(thing):
+    """Return whether any value is the data of a file."""
+    return isinstance(thing, bytes) and len(thing) <= MOST_BYTES
+
+
+def is_size(thing):
+    """Return whether any value is the size of a sparse file."""
+    return is_integer_within(thing, 0, MOST_BYTES)
+
+
+def is_mode(thing):
+    """Return whether any value is a mode."""
+    return is_integer_within(thing, 0, LAST_MODE)
+
+
+def is_time(thing):
+    """Return whether any value is a time."""
+    return is_integer_within(thing, 0, LAST_TIME)
+
+
+def are_pieces(size, pieces):
+    """Return whether these are pieces of a sparse file of this size."""
+    if not all([is_piece(piece) for piece in pieces]):
+        return False
+    return are_spans(size, [(offset, len(data)) for offset, data in pieces])
+
+
+def is_piece(thing):
+    """Return whether a value is an integer with data, wherever these stand."""
+    if not isinstance(thing, tuple) or len(thing) != 2:
+        return False
+    # No piece begins behind the greatest size, whatever the size is.
+    return is_integer_within(thing[0], 0, MOST_BYTES) and isinstance(thing[1], bytes)
+
+
+def are_spans(size, spans):
+    """Return whether pieces with these offsets and lengths fit into a size."""
+    if len(spans) > MOST_PIECES:
+        return False
+    least = 0
+    for offset, length in spans:
+        if offset < least or length < 1 or offset + length > size:
+            return False
+        # One byte stays free: pieces that touch would be one piece.
+        least = offset + length + 1
+    return True
+
+
 def check_name(thing):
     """Raise `NoName` if a value is not a name."""
     if not is_name(thing):
@@ -34,46 +82,23 @@ def check_name(thing):
 
 def check_data(thing):
     """Raise `NoData` if a value is not the data of a file."""
-    if not isinstance(thing, bytes) or len(thing) > MOST_BYTES:
+    if not is_data(thing):
         raise NoData(thing)
 
 
 def check_pieces(size, pieces):
     """Raise `NoSize` or `NoPieces` if a sparse file cannot have these."""
-    if not is_integer_within(size, 0, MOST_BYTES):
+    if not is_size(size):
         raise NoSize(size)
     if not are_pieces(size, pieces):
         raise NoPieces(pieces)
 
 
-def are_pieces(size, pieces):
-    """Return whether these are pieces of a sparse file of this size."""
-    if len(pieces) > MOST_PIECES:
-        return False
-    least = 0
-    for piece in pieces:
-        if not is_piece(piece, least, size):
-            return False
-        # One byte stays free: pieces that touch would be one piece.
-        least = piece[0] + len(piece[1]) + 1
-    return True
-
-
-def is_piece(thing, least, size):
-    """Return whether a value is a piece from `least` on and within the size."""
-    if not isinstance(thing, tuple) or len(thing) != 2:
-        return False
-    offset, data = thing
-    if not is_integer_within(offset, least, size):
-        return False
-    return isinstance(data, bytes) and 1 <= len(data) <= size - offset
-
-
 def check_mode_and_time(mode, time):
     """Raise `NoMode` or `NoTime` if no member can have these."""
-    if not is_integer_within(mode, 0, LAST_MODE):
+    if not is_mode(mode):
         raise NoMode(mode)
-    if not is_integer_within(time, 0, LAST_TIME):
+    if not is_time(time):
         raise NoTime(time)
 
 
@@ -228,3 +253,10 @@ class Link(Member):
 
     def __repr__(self):
         return f"Link({self.name!r})"
+
+
+def check_members(things):
+    """Raise `NoMember` with the first value that is not a member."""
+    for thing in things:
+        if not isinstance(thing, (File, Sparse, Directory, Symlink, Link)):
+            raise NoMember(thing)
