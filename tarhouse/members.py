@@ -255,6 +255,13 @@ class Link(Member):
         return f"Link({self.name!r})"
 
 
+def target_of(member):
+    """Return the target of a member, empty if its kind has none."""
+    if isinstance(member, (Symlink, Link)):
+        return member.target
+    return ""
+
+
 def check_members(things):
     """Raise `NoMember` with the first value that is not a member."""
     for thing in things:

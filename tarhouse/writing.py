@@ -4,7 +4,7 @@ from tarhouse.blocks import BLOCK_SIZE, padded
 from tarhouse.errors import Closed, TooMany
 from tarhouse.headers import LONG_NAME, TEXT_SIZE, header
 from tarhouse.maps import map_block
-from tarhouse.members import File, Link, Sparse, Symlink, check_members
+from tarhouse.members import File, Sparse, check_members, target_of
 
 KIND_CHARACTERS = {"file": "0", "sparse": "S", "directory": "5", "symlink": "2", "link": "1"}
 END_SIZE = 1024
@@ -33,13 +33,6 @@ def packed(member):
         target=target,
     )
     return long_part("K", target) + long_part("L", member.name) + head + padded(stored)
-
-
-def target_of(member):
-    """Return the target of a member, empty if its kind has none."""
-    if isinstance(member, (Symlink, Link)):
-        return member.target
-    return ""
 
 
 def stored_bytes(member):

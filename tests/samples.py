@@ -1,5 +1,7 @@
 """What several tests use: archives built without the program, and values."""
 
+import unittest
+
 from tarhouse.members import Directory, File, Link, Sparse, Symlink
 
 LONG = "././@LongLink"
@@ -8,6 +10,16 @@ ANY = [
     None, True, False, 0, 1, -1, 10 ** 59, "", "a", "a/b", b"", b"a", [], (), {}, [1, [2]], (1, (2,)),
     {"a": [1]}, File("a", b"x"), [Directory("a")],
 ]
+
+
+class Raising(unittest.TestCase):
+    def raises(self, error, function, *given, **fields):
+        """Check that a call raises an error with just these fields."""
+        with self.assertRaises(error) as caught:
+            function(*given)
+        for field, value in fields.items():
+            self.assertEqual(getattr(caught.exception, field), value)
+            self.assertIs(type(getattr(caught.exception, field)), type(value))
 
 
 def text(string):

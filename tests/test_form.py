@@ -37,7 +37,11 @@ INTERFACE = {
     "blobs": ["blob"],
     "headers": ["header", "checksum"],
     "writing": ["written", "blocks_of", "Writer"],
+    "reading": ["scan", "read", "each", "Reader"],
     "houses": ["House"],
+    "unpacking": ["unpacked", "walked"],
+    "following": ["followed", "strays"],
+    "links": ["resolved", "rings", "dangers"],
     "members": ["Member", "File", "Sparse", "Directory", "Symlink", "Link", "is_name", "is_path"],
     "errors": [
         "NoBlob", "NoData", "NoBlock", "NoMember", "NoHouse", "NoName", "NoMode", "NoSize", "NoPieces",
@@ -52,6 +56,7 @@ METHODS = {
     ("members", "Symlink"): ["__init__", "__eq__", "__repr__"],
     ("members", "Link"): ["__init__", "__eq__", "__repr__"],
     ("writing", "Writer"): ["__init__", "add", "close", "__len__", "archive", "__enter__", "__exit__", "fill"],
+    ("reading", "Reader"): ["__init__", "feed", "finish", "trouble", "is_ended", "waiting"],
     ("houses", "House"): ["__init__", "of", "entries", "sharers", "thing_at", "has", "__len__", "__eq__"],
 }
 
@@ -153,6 +158,23 @@ class Names(unittest.TestCase):
                     self.assertNotIn(name, BARRED_NAMES)
                     self.assertFalse(hasattr(builtins, name))
 
+    def test_no_variable_has_the_name_of_an_import_or_a_class(self):
+        for stem, tree in TREES.items():
+            taken = {alias.name for node in tree.body if isinstance(node, ast.ImportFrom) for alias in node.names}
+            taken |= {node.name for node in tree.body if isinstance(node, ast.ClassDef)}
+            bound = {node.arg for node in ast.walk(tree) if isinstance(node, ast.arg)}
+            bound |= {node.id for node in ast.walk(tree) if isinstance(node, ast.Name) and
+                      not isinstance(node.ctx, ast.Load)}
+            bound |= {node.name for node in ast.walk(tree) if isinstance(node, ast.ExceptHandler)}
+            self.assertEqual(taken & bound, set(), stem)
+
+    def test_nothing_is_imported_that_is_not_used(self):
+        for stem, tree in TREES.items():
+            used = {node.id for node in ast.walk(tree) if isinstance(node, ast.Name)}
+            for node in tree.body:
+                if isinstance(node, ast.ImportFrom):
+                    self.assertEqual({alias.name for alias in node.names} - used, set(), stem)
+
     def test_no_name_is_a_method_and_an_attribute(self):
         methods = {
             node.name for _, kind in nodes(ast.ClassDef) for node in kind.body
@@ -170,6 +192,18 @@ class Names(unittest.TestCase):
         stored = {node.attr for _, node in nodes(ast.Attribute) if not isinstance(node.ctx, ast.Load)}
         called = {node.func.attr for _, node in nodes(ast.Call) if isinstance(node.func, ast.Attribute)}
         self.assertEqual(properties & (stored | called), set())
+
+    def test_generators_are_not_called(self):
+        # Their calls would have to be iterated at once, and their names to be theirs alone.
+        found = [
+            (stem, node.name) for stem, node in nodes(ast.FunctionDef)
+            if any(isinstance(part, (ast.Yield, ast.YieldFrom)) for part in ast.walk(node))
+        ]
+        self.assertEqual(found, [("reading", "each"), ("unpacking", "walked")])
+        names = [name for _, name in found]
+        self.assertEqual([node.id for _, node in nodes(ast.Name) if node.id in names], [])
+        self.assertEqual([node.attr for _, node in nodes(ast.Attribute) if node.attr in names], [])
+        self.assertEqual(sum(node.name in names for _, node in nodes(ast.FunctionDef)), len(names))
 
     def test_no_file_imports_from_itself_through_others(self):
         imports = {

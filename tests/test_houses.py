@@ -77,7 +77,8 @@ class Entries(Case):
         entries = [("a", FILE), ("b", FILE), ("c", ("link", "b"))]
         self.gives(entries, entries)
         entries = [("d", ("link", "b")), ("c", ("link", "e")), ("b", FILE), ("e", FILE), ("a", ("link", "b"))]
-        self.gives(entries, [("a", FILE), ("b", ("link", "a")), ("c", FILE), ("d", ("link", "a")), ("e", ("link", "c"))])
+        self.gives(entries, [("a", FILE), ("b", ("link", "a")), ("c", FILE), ("d", ("link", "a")),
+                             ("e", ("link", "c"))])
 
     def test_links_across_directories(self):
         entries = [("z", DIRECTORY), ("z/z", FILE), ("a", ("link", "z/z")), ("b", DIRECTORY), ("b/z", ("link", "z/z"))]

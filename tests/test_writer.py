@@ -2,7 +2,7 @@
 
 import unittest
 
-from samples import ANY, MEMBERS, archive, packed
+from samples import ANY, MEMBERS, Raising, archive, packed
 from tarhouse.blobs import blob
 from tarhouse.errors import Closed, NoMember, TooMany
 from tarhouse.members import Directory, File, Link, Member, Symlink
@@ -14,18 +14,11 @@ D = Directory("a", mode=448)
 NO_MEMBERS = [thing for thing in ANY if not isinstance(thing, Member)] + [[A], (A, B), {1: A}, File]
 
 
-class Case(unittest.TestCase):
+class Case(Raising):
     def holds(self, writer, members):
         """Check that a writer has just these members."""
         self.assertEqual(len(writer), len(members))
         self.assertEqual(writer.archive, archive(members))
-
-    def raises(self, error, function, *given, **fields):
-        with self.assertRaises(error) as caught:
-            function(*given)
-        for field, value in fields.items():
-            self.assertEqual(getattr(caught.exception, field), value)
-            self.assertIs(type(getattr(caught.exception, field)), type(value))
 
 
 class Adding(Case):
