@@ -55,7 +55,7 @@ def wrong_field(block, heading, long_name, long_target):
         ("group", heading.group == 0),
         ("size", heading.size >= 0),
         ("time", heading.time == 0 if is_long else heading.time >= 0),
-        ("kind", is_right_kind(heading.kind, is_long, long_name, long_target)),
+        ("kind", is_right_kind(heading.kind, is_long, long_target)),
         ("target", is_right_target(heading, long_target)),
         ("magic", block[257:265] == MAGIC),
         ("rest", block[265:] == bytes(REST_SIZE)),
@@ -70,19 +70,15 @@ def wrong_field(block, heading, long_name, long_target):
 
 def is_right_name(name, long_name):
     """Return whether a header may have this name behind such long parts."""
-    # Whether a long part may stand here is a question of its kind.
-    if name == LONG_NAME:
-        return True
     if long_name != "":
         return name == long_name[:TEXT_SIZE]
-    return is_name(name)
+    return name == LONG_NAME or is_name(name)
 
 
-def is_right_kind(kind, is_long, long_name, long_target):
-    """Return whether a header may have this kind behind such long parts."""
+def is_right_kind(kind, is_long, long_target):
+    """Return whether a header may have this kind behind such a long part."""
+    # Behind one of kind L, the name already shows that no long part may follow.
     if kind not in SIZES or (kind in LONG_KINDS) != is_long:
-        return False
-    if is_long and long_name != "":
         return False
     return long_target == "" or kind in BEHIND_LONG_TARGETS
 

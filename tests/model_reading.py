@@ -27,8 +27,8 @@ def header_fault(block, long_name, long_target):
     if long_name is not None:
         right = name.decode("latin-1") == long_name[:100]
     else:
-        right = is_padded(NAME + rb"{1,100}", name)
-    if not right and not is_long:
+        right = is_long or is_padded(NAME + rb"{1,100}", name)
+    if not right:
         return "name"
     zero = rb"0{7}\x00"
     patterns = [
@@ -42,8 +42,6 @@ def header_fault(block, long_name, long_target):
     if kind not in ([b"K", b"L"] if is_long else [b"0", b"S", b"5", b"2", b"1"]):
         return "kind"
     if long_target is not None and kind not in (b"L", b"1", b"2"):
-        return "kind"
-    if is_long and long_name is not None:
         return "kind"
     if kind not in (b"1", b"2"):
         right = target == bytes(100)

@@ -301,8 +301,11 @@ class LongParts(Case):
     K = long_part("K", TARGET)
     L = long_part("L", NAME)
 
-    def header(self, kind, name="n", target="", size=0):
-        return block({"kind": kind.encode(), "name": text(name), "target": text(target), "size": octal(size, 12)})
+    def header(self, kind, name="n", target="", size=0, mode=0):
+        return block({
+            "kind": kind.encode(), "name": text(name), "target": text(target), "size": octal(size, 12),
+            "mode": octal(mode, 8),
+        })
 
     def test_right_ones(self):
         for kind, made in (("1", Link), ("2", Symlink)):
@@ -315,17 +318,21 @@ class LongParts(Case):
 
     def test_names(self):
         for front in (self.L, self.K + self.L):
-            for name in ("n", "n" * 99, "n" * 99 + "m", "m" + "n" * 99, "", LONG + "x", "N" * 100):
+            for name in ("n", "n" * 99, "n" * 99 + "m", "m" + "n" * 99, "", LONG, "N" * 100):
                 self.wrong(front + self.header("2", name, self.TARGET), "name", len(front))
         self.wrong(self.K + self.header("2", "", self.TARGET), "name", 1024)
 
     def test_no_long_part_behind_a_long_name(self):
-        self.wrong(self.L + self.L, "kind", 1024)
-        self.wrong(self.L + self.K, "kind", 1024)
-        self.wrong(self.K + self.L + self.L, "kind", 2048)
-        self.wrong(self.K + self.L + self.K, "kind", 2048)
-        for kind in "0S521":
-            self.wrong(self.L + self.header(kind, LONG, "t" if kind in "12" else ""), "kind", 1024)
+        # The name has to be the first characters of the text, which `././@LongLink` is not.
+        self.wrong(self.L + self.L, "name", 1024)
+        self.wrong(self.L + self.K, "name", 1024)
+        self.wrong(self.K + self.L + self.L, "name", 2048)
+        self.wrong(self.K + self.L + self.K, "name", 2048)
+        for front in (self.L, self.K + self.L):
+            for kind in "0S521KL":
+                for mode, size in ((0, 0), (0, 102), (493, 0), (493, 9999)):
+                    target = self.TARGET if kind in "12" else ""
+                    self.wrong(front + self.header(kind, LONG, target, mode=mode, size=size), "name", len(front))
         for kind in "KL":
             self.wrong(self.L + self.header(kind, self.NAME, size=102), "kind", 1024)
             self.wrong(self.K + self.L + self.header(kind, self.NAME, size=102), "kind", 2048)
