@@ -262,6 +262,21 @@ def target_of(member):
     return ""
 
 
+def copy_of(member):
+    """Return a new member that is equal to this one."""
+    mode = member.mode
+    time = member.time
+    if isinstance(member, File):
+        return File(member.name, member.data, mode=mode, time=time)
+    if isinstance(member, Sparse):
+        return Sparse(member.name, member.size, *member.pieces, mode=mode, time=time)
+    if isinstance(member, Directory):
+        return Directory(member.name, mode=mode, time=time)
+    if isinstance(member, Symlink):
+        return Symlink(member.name, member.target, mode=mode, time=time)
+    return Link(member.name, member.target, mode=mode, time=time)
+
+
 def check_members(things):
     """Raise `NoMember` with the first value that is not a member."""
     for thing in things:

@@ -42,6 +42,9 @@ INTERFACE = {
     "unpacking": ["unpacked", "walked"],
     "following": ["followed", "strays"],
     "links": ["resolved", "rings", "dangers"],
+    "effects": ["effect"],
+    "comparing": ["alike", "parting_house"],
+    "editing": ["Editor"],
     "members": ["Member", "File", "Sparse", "Directory", "Symlink", "Link", "is_name", "is_path"],
     "errors": [
         "NoBlob", "NoData", "NoBlock", "NoMember", "NoHouse", "NoName", "NoMode", "NoSize", "NoPieces",
@@ -57,6 +60,9 @@ METHODS = {
     ("members", "Link"): ["__init__", "__eq__", "__repr__"],
     ("writing", "Writer"): ["__init__", "add", "close", "__len__", "archive", "__enter__", "__exit__", "fill"],
     ("reading", "Reader"): ["__init__", "feed", "finish", "trouble", "is_ended", "waiting"],
+    ("editing", "Editor"): [
+        "__init__", "of", "add", "exchange", "take_out", "undo", "archive", "members", "offsets", "__len__",
+    ],
     ("houses", "House"): ["__init__", "of", "entries", "sharers", "thing_at", "has", "__len__", "__eq__"],
 }
 
