@@ -31,7 +31,7 @@ BUILTIN_METHODS = set(
     "append clear copy count endswith extend find get index insert isalnum isalpha isdigit islower isspace"
     " isupper items join keys ljust lower lstrip partition pop remove replace reverse rfind rjust rpartition"
     " rsplit rstrip setdefault split splitlines startswith strip update upper values zfill bit_length"
-    " isascii encode decode add discard".split()
+    " isascii removeprefix encode decode hex fromhex add discard".split()
 )
 INTERFACE = {
     "blobs": ["blob"],
@@ -45,6 +45,10 @@ INTERFACE = {
     "effects": ["effect"],
     "comparing": ["alike", "parting_house"],
     "editing": ["Editor"],
+    "updates": ["fewest_blocks", "least_update", "update_paper"],
+    "checker": ["shows"],
+    "texts": ["show_member", "read_member"],
+    "desk": ["Desk"],
     "members": ["Member", "File", "Sparse", "Directory", "Symlink", "Link", "is_name", "is_path"],
     "errors": [
         "NoBlob", "NoData", "NoBlock", "NoMember", "NoHouse", "NoName", "NoMode", "NoSize", "NoPieces",
@@ -60,6 +64,7 @@ METHODS = {
     ("members", "Link"): ["__init__", "__eq__", "__repr__"],
     ("writing", "Writer"): ["__init__", "add", "close", "__len__", "archive", "__enter__", "__exit__", "fill"],
     ("reading", "Reader"): ["__init__", "feed", "finish", "trouble", "is_ended", "waiting"],
+    ("desk", "Desk"): ["__init__", "say"],
     ("editing", "Editor"): [
         "__init__", "of", "add", "exchange", "take_out", "undo", "archive", "members", "offsets", "__len__",
     ],
@@ -261,6 +266,44 @@ class Expressions(unittest.TestCase):
                     left = left.operand
                 self.assertIsInstance(left, ast.Call, (stem, node.lineno))
                 self.assertIn(left.func.id, ("len", "int", "sum"))
+
+    def test_views_are_iterated_at_once(self):
+        lazy = {"zip", "enumerate", "reversed", "range", "items", "keys", "values"}
+        takers = {"list", "tuple", "dict", "sorted", "sum", "any", "all", "enumerate", "zip", "bytes", "min", "max"}
+        right = set()
+        for _, node in nodes(ast.For, ast.comprehension):
+            right.add(node.iter)
+        for _, node in nodes(ast.Call):
+            if isinstance(node.func, ast.Name) and node.func.id in takers and node.args:
+                right.add(node.args[0])
+            if isinstance(node.func, ast.Name) and node.func.id == "reversed" and isinstance(node.args[0], ast.Call):
+                if isinstance(node.args[0].func, ast.Name) and node.args[0].func.id == "range":
+                    right.add(node.args[0])
+        for stem, node in nodes(ast.Call):
+            name = node.func.id if isinstance(node.func, ast.Name) else getattr(node.func, "attr", "")
+            if name in lazy:
+                self.assertIn(node, right, (stem, node.lineno))
+
+    def test_no_set_is_stored(self):
+        kept = (ast.Assign, ast.AugAssign, ast.Return, ast.keyword)
+        for stem, node in nodes(*kept):
+            value = node.value
+            if isinstance(value, ast.Call) and isinstance(value.func, ast.Name):
+                self.assertNotIn(value.func.id, ("set", "frozenset"), stem)
+            self.assertNotIsInstance(value, (ast.Set, ast.SetComp), stem)
+
+    def test_errors_are_raised_and_caught_by_name(self):
+        own = set(INTERFACE["errors"])
+        for stem, node in nodes(ast.Raise):
+            if node.exc is not None:
+                self.assertIsInstance(node.exc, ast.Call, (stem, node.lineno))
+                self.assertIn(node.exc.func.id, own, (stem, node.lineno))
+            if node.cause is not None:
+                self.assertIsInstance(node.cause, (ast.Constant, ast.Name), (stem, node.lineno))
+        for stem, node in nodes(ast.ExceptHandler):
+            caught = node.type.elts if isinstance(node.type, ast.Tuple) else [node.type]
+            for kind in caught:
+                self.assertIn(kind.id, own, (stem, node.lineno))
 
     def test_strings(self):
         for stem, node in nodes(ast.Constant):
