@@ -16,16 +16,10 @@ def alike(one, other):
 
 def parting_house(one, other):
     """Return a house with the fewest paths to which two lists do not do the same, or None."""
-    rows = effect(one)
-    others = effect(other)
-    if rows == others:
+    effects = [effect(one), effect(other)]
+    if effects[0] == effects[1]:
         return None
-    if rows is None:
-        plan = needed(view_of(others))
-    elif others is None:
-        plan = needed(view_of(rows))
-    else:
-        plan = parting_plan(view_of(rows), view_of(others))
+    plan = parting_plan([view_of(rows) for rows in effects if rows is not None])
     return furnished(plan, [*one, *other])
 
 
@@ -34,37 +28,27 @@ def view_of(rows):
     return {path: (needs, outcome) for path, needs, outcome in rows}
 
 
+def parting_plan(views):
+    """Return the plan of the least house that parts two views, or one from a list that is never unpacked."""
+    plans = [needed(view) for view in views]
+    base = min(plans, key=len)
+    # Of two unequal plans, the less one lacks something that the other one has,
+    # or has something of another kind: the view of the other one refuses it.
+    if len(plans) == 1 or plans[0] != plans[1]:
+        return base
+    # What one view alone refuses, they also leave unequal where nothing stood.
+    spots = [more_for(base, path, kind) for path, kind in unequal_spots(views[0], views[1])]
+    more = min(spots, key=len)
+    return {**base, **more}
+
+
 def needed(view):
     """Return the plan of the least house that a view does not refuse."""
     return {path: view[path][0][0] for path in view if "absent" not in view[path][0]}
 
 
-def needs_at(view, path):
-    """Return what may stand at any path, in a view."""
-    return view[path][0] if path in view else ANYTHING
-
-
-def parting_plan(one, other):
-    """Return the plan of the least house that parts two views."""
-    base = needed(one)
-    plans = [base, needed(other)]
-    if plans[0] != plans[1]:
-        # Every house that is not refused has such a plan within it.
-        refused = [plan for plan in plans if not admits(one, plan) or not admits(other, plan)]
-        return min(refused, key=len)
-    # Whatever one view alone refuses, they also leave unequal where nothing stood.
-    spots = [more_for(base, path, kind) for path, kind in unequal_spots(one, other)]
-    more = min(spots, key=len)
-    return {**base, **more}
-
-
-def admits(view, plan):
-    """Return whether a view does not refuse the houses of a plan."""
-    return all([plan.get(path, "absent") in view[path][0] for path in view])
-
-
 def unequal_spots(one, other):
-    """Return `(path, kind)` for what both views admit, but do not leave equal."""
+    """Return `(path, kind)` for what two views do not refuse at a path, but leave unequal."""
     return [
         (path, kind)
         for path in {**one, **other}
@@ -73,12 +57,17 @@ def unequal_spots(one, other):
     ]
 
 
+def needs_at(view, path):
+    """Return what may stand at any path, in a view."""
+    return view[path][0] if path in view else ANYTHING
+
+
 def left_of(view, path, kind):
-    """Return what is left at a path at which something of a kind stood."""
+    """Return the outcome at a path at which something of a kind stood."""
     outcome = view[path][1] if path in view else SAME
     if outcome == MADE_IF_MISSING:
-        outcome = MADE if kind == "absent" else SAME
-    return (kind,) if outcome == SAME else outcome
+        return MADE if kind == "absent" else SAME
+    return outcome
 
 
 def more_for(base, path, kind):
@@ -99,15 +88,7 @@ def furnished(plan, members):
     for path in sorted(plan):
         while time in taken:
             time += 1
-        entries.append((path, thing_with(plan[path], time)))
+        thing = ("directory", 493, time) if plan[path] == "directory" else ("file", b"", 420, time)
+        entries.append((path, thing))
         time += 1
     return House.of(entries)
-
-
-def thing_with(kind, time):
-    """Return a thing of a kind with a time."""
-    if kind == "directory":
-        return ("directory", 493, time)
-    if kind == "file":
-        return ("file", b"", 420, time)
-    return ("symlink", "x", 511, time)

@@ -131,6 +131,12 @@ class Parted(Case):
         self.parted(both + [Link("c", "a")], both + [Link("c", "b")], 2)
         self.parted(both + [Link("c", "a"), Link("a", "b")], both + [Link("c", "a"), Link("b", "c"), Link("a", "b")], 2)
 
+    def test_files_that_change_places(self):
+        # Only two unequal files show it.
+        swap = [Link("t", "a"), Link("a", "b"), Link("b", "t")]
+        self.parted(swap + [put("t")], [Link("a", "a"), Link("b", "b"), put("t")], 2)
+        self.parted(swap, [Link("t", "a"), Link("b", "b")], 2)
+
     def test_whose_file_is_shared(self):
         self.parted([put("a"), Link("b", "a"), put("a")], [put("a"), Link("b", "a")], 0)
         front = [put("a"), put("b")]
@@ -149,6 +155,9 @@ class Parted(Case):
     def test_directories_of_before(self):
         self.parted([Link("c", "a/b")], [Link("c", "a/b"), Directory("a")], 2)
         self.parted([Link("c", "a/b"), Directory("a")], [Link("c", "a/b"), D], 2)
+        self.parted([Link("c", "a/b/d")], [Link("c", "a/b/d"), Directory("a/b")], 3)
+        self.parted([Link("c", "a/b/d")], [Link("c", "a/b/d"), Directory("a/b", time=1)], 3)
+        self.parted([Link("c", "a/b/d")], [Link("c", "a/b/d"), Directory("a/b", time=2)], 3)
 
     def test_with_a_file_that_both_lists_need(self):
         self.parted([Directory("a"), Link("b", "b")], [Directory("a/c"), Link("b", "b")], 1)
